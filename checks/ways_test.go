@@ -1,0 +1,100 @@
+package checks
+
+import (
+	"errors"
+	"go/ast"
+	"go/token"
+	"go/types"
+	"path"
+	"strings"
+	"testing"
+)
+
+// ways says which features of the language the packages that have been built have to use.
+const ways = `
+natural generic-function method-value
+integer array struct-compared
+`
+
+// features finds uses of the features in a package whose types are known.
+var features = map[string]func(ast.Node, *types.Info) bool{
+	"generic-function": func(n ast.Node, _ *types.Info) bool {
+		f, ok := n.(*ast.FuncDecl)
+		return ok && f.Type.TypeParams != nil
+	},
+	"method-value": func(n ast.Node, info *types.Info) bool {
+		call, ok := n.(*ast.CallExpr)
+		if !ok {
+			return false
+		}
+		for _, argument := range call.Args {
+			if s, ok := argument.(*ast.SelectorExpr); ok && info.Selections[s] != nil && info.Selections[s].Kind() == types.MethodVal {
+				return true
+			}
+		}
+		return false
+	},
+	"array": func(n ast.Node, info *types.Info) bool {
+		literal, ok := n.(*ast.CompositeLit)
+		if !ok {
+			return false
+		}
+		_, ok = underlying(info, literal).(*types.Array)
+		return ok
+	},
+	"struct-compared": func(n ast.Node, info *types.Info) bool {
+		b, ok := n.(*ast.BinaryExpr)
+		if !ok || b.Op != token.EQL && b.Op != token.NEQ {
+			return false
+		}
+		_, ok = underlying(info, b.X).(*types.Struct)
+		return ok
+	},
+}
+
+// none imports nothing: the types of a package alone are enough here.
+type none struct{}
+
+func (none) Import(string) (*types.Package, error) { return nil, errors.New("not imported") }
+
+// DOC, section Ways
+func TestWays(t *testing.T) {
+	all := sources(t)
+	for line := range strings.Lines(strings.TrimSpace(ways)) {
+		words := strings.Fields(line)
+		for _, feature := range words[1:] {
+			if !uses(all, words[0], features[feature]) {
+				t.Errorf("package %s does not use %s", words[0], feature)
+			}
+		}
+	}
+}
+
+// uses reports whether a package has a node with a feature.
+func uses(all []source, name string, isUse func(ast.Node, *types.Info) bool) bool {
+	var parsed []*ast.File
+	for _, s := range all {
+		if path.Dir(s.path) == name {
+			parsed = append(parsed, s.file)
+		}
+	}
+	info := &types.Info{Types: map[ast.Expr]types.TypeAndValue{}, Selections: map[*ast.SelectorExpr]*types.Selection{}, Uses: map[*ast.Ident]types.Object{}, Defs: map[*ast.Ident]types.Object{}}
+	lenient := types.Config{Importer: none{}, Error: func(error) {}}
+	lenient.Check(name, all[0].set, parsed, info)
+	found := false
+	for _, file := range parsed {
+		ast.Inspect(file, func(n ast.Node) bool {
+			found = found || n != nil && isUse(n, info)
+			return !found
+		})
+	}
+	return found
+}
+
+// underlying returns nil for expressions whose types are not known.
+func underlying(info *types.Info, e ast.Expr) types.Type {
+	if known := info.TypeOf(e); known != nil {
+		return known.Underlying()
+	}
+	return nil
+}
