@@ -1,7 +1,7 @@
 package words
 
-// rows is how many products and a word fit into 64 bits together.
-const rows = 16
+// rows is how many products of two words fit into 64 bits together, with a word and a carry.
+const rows = 18
 
 // Multiply returns the product of two numbers.
 func Multiply(x, y []uint64) []uint64 {
