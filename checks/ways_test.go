@@ -6,6 +6,7 @@ import (
 	"go/token"
 	"go/types"
 	"path"
+	"slices"
 	"strings"
 	"testing"
 )
@@ -14,6 +15,8 @@ import (
 const ways = `
 natural generic-function method-value
 integer array struct-compared
+rational map function-field
+interval array variadic
 `
 
 // features finds uses of the features in a package whose types are known.
@@ -49,6 +52,24 @@ var features = map[string]func(ast.Node, *types.Info) bool{
 		}
 		_, ok = underlying(info, b.X).(*types.Struct)
 		return ok
+	},
+	"map": func(n ast.Node, _ *types.Info) bool {
+		_, ok := n.(*ast.MapType)
+		return ok
+	},
+	"function-field": func(n ast.Node, _ *types.Info) bool {
+		fields, ok := n.(*ast.StructType)
+		return ok && slices.ContainsFunc(fields.Fields.List, func(f *ast.Field) bool {
+			_, isFunction := f.Type.(*ast.FuncType)
+			return isFunction
+		})
+	},
+	"variadic": func(n ast.Node, _ *types.Info) bool {
+		f, ok := n.(*ast.FuncDecl)
+		return ok && slices.ContainsFunc(f.Type.Params.List, func(p *ast.Field) bool {
+			_, isVariadic := p.Type.(*ast.Ellipsis)
+			return isVariadic
+		})
 	},
 }
 

@@ -1,4 +1,4 @@
-// Package words computes with natural numbers as lists of words, the lowest one first. It is shared by the layers natural and integer.
+// Package words computes with natural numbers as lists of words, the lowest one first. It is shared by the layers natural, integer and rational.
 //
 // A word is nine decimal digits, so that decimal strings are read and written in one pass, and the product of two words fits into 64 bits. No list has a word 0 at its end; zero is the empty list. Results share no memory with arguments.
 package words
