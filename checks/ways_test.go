@@ -93,23 +93,42 @@ func TestWays(t *testing.T) {
 
 // uses reports whether a package has a node with a feature.
 func uses(all []source, name string, isUse func(ast.Node, *types.Info) bool) bool {
-	var parsed []*ast.File
-	for _, s := range all {
-		if path.Dir(s.path) == name {
-			parsed = append(parsed, s.file)
-		}
-	}
-	info := &types.Info{Types: map[ast.Expr]types.TypeAndValue{}, Selections: map[*ast.SelectorExpr]*types.Selection{}, Uses: map[*ast.Ident]types.Object{}, Defs: map[*ast.Ident]types.Object{}}
-	lenient := types.Config{Importer: none{}, Error: func(error) {}}
-	lenient.Check(name, all[0].set, parsed, info)
+	files, info := typed(all, name)
 	found := false
-	for _, file := range parsed {
+	for _, file := range files {
 		ast.Inspect(file, func(n ast.Node) bool {
 			found = found || n != nil && isUse(n, info)
 			return !found
 		})
 	}
 	return found
+}
+
+// typed returns the files of a package, and the types that are known without what it imports.
+func typed(all []source, folder string) ([]*ast.File, *types.Info) {
+	var files []*ast.File
+	for _, s := range all {
+		if path.Dir(s.path) == folder {
+			files = append(files, s.file)
+		}
+	}
+	return files, infoOf(folder, all[0].set, files)
+}
+
+func infoOf(name string, set *token.FileSet, files []*ast.File) *types.Info {
+	info := &types.Info{Types: map[ast.Expr]types.TypeAndValue{}, Selections: map[*ast.SelectorExpr]*types.Selection{}, Uses: map[*ast.Ident]types.Object{}, Defs: map[*ast.Ident]types.Object{}}
+	lenient := types.Config{Importer: none{}, Error: func(error) {}}
+	lenient.Check(name, set, files, info)
+	return info
+}
+
+// folders returns the packages of some files.
+func folders(all []source) map[string]bool {
+	out := map[string]bool{}
+	for _, s := range all {
+		out[path.Dir(s.path)] = true
+	}
+	return out
 }
 
 // underlying returns nil for expressions whose types are not known.

@@ -105,6 +105,18 @@ func TestAddSubMul(t *testing.T) {
 	}
 }
 
+// P1.2: what is carried beyond the first digit of both numbers.
+func TestAddCarries(t *testing.T) {
+	for digits := 1; digits <= 100; digits++ {
+		nines, power := strings.Repeat("9", digits), "1"+strings.Repeat("0", digits)
+		for _, c := range [][3]string{{nines, "1", power}, {"1", nines, power}, {nines, nines, "1" + nines[1:] + "8"}} {
+			if sum, e := Add(c[0], c[1]); e != api.OK || sum != c[2] {
+				t.Errorf("%s + %s is %s, %d", c[0], c[1], sum, e)
+			}
+		}
+	}
+}
+
 // P1.2
 func TestDivModAndGCD(t *testing.T) {
 	for _, a := range samples() {

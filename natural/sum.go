@@ -46,7 +46,9 @@ func add(x, y []uint64) []uint64 {
 		x, y = y, x
 	}
 	var c carrier
-	return words.Trim(append(join(x, y, c.plus), c.carry))
+	// The carry is read in a statement of its own: Go leaves open whether it would be read before a call in the same one.
+	sum := join(x, y, c.plus)
+	return words.Trim(append(sum, c.carry))
 }
 
 // subtract needs a first number that is not less than the second one.
