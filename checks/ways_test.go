@@ -3,9 +3,11 @@ package checks
 import (
 	"errors"
 	"go/ast"
+	"go/parser"
 	"go/token"
 	"go/types"
 	"path"
+	"path/filepath"
 	"slices"
 	"strings"
 	"testing"
@@ -17,6 +19,8 @@ natural generic-function method-value
 integer array struct-compared
 rational map function-field
 interval array variadic
+root array defer
+angle range-function method-value
 `
 
 // features finds uses of the features in a package whose types are known.
@@ -71,12 +75,47 @@ var features = map[string]func(ast.Node, *types.Info) bool{
 			return isVariadic
 		})
 	},
+	"defer": func(n ast.Node, _ *types.Info) bool {
+		_, ok := n.(*ast.DeferStmt)
+		return ok
+	},
+	"range-function": func(n ast.Node, info *types.Info) bool {
+		loop, ok := n.(*ast.RangeStmt)
+		if !ok {
+			return false
+		}
+		_, ok = underlying(info, loop.X).(*types.Signature)
+		return ok
+	},
 }
 
-// none imports nothing: the types of a package alone are enough here.
-type none struct{}
+// few imports the types of package api, and those of functions over which loops range: together with those of a package itself they are enough here.
+type few struct{}
 
-func (none) Import(string) (*types.Package, error) { return nil, errors.New("not imported") }
+func (few) Import(name string) (*types.Package, error) {
+	texts := map[string]any{} // nil for those that are read from their files
+	switch name {
+	case "iter":
+		texts["iter.go"] = "package iter; type Seq[V any] func(func(V) bool); type Seq2[K, V any] func(func(K, V) bool)"
+	case "garboard/api":
+		paths, _ := filepath.Glob(filepath.Join(root, "api", "*.go"))
+		for _, path := range paths {
+			texts[path] = nil
+		}
+	default:
+		return nil, errors.New("not imported")
+	}
+	set := token.NewFileSet()
+	var files []*ast.File
+	for path, text := range texts {
+		file, e := parser.ParseFile(set, path, text, 0)
+		if e != nil {
+			return nil, e
+		}
+		files = append(files, file)
+	}
+	return new(types.Config).Check(name, set, files, nil)
+}
 
 // DOC, section Ways
 func TestWays(t *testing.T) {
@@ -117,7 +156,7 @@ func typed(all []source, folder string) ([]*ast.File, *types.Info) {
 
 func infoOf(name string, set *token.FileSet, files []*ast.File) *types.Info {
 	info := &types.Info{Types: map[ast.Expr]types.TypeAndValue{}, Selections: map[*ast.SelectorExpr]*types.Selection{}, Uses: map[*ast.Ident]types.Object{}, Defs: map[*ast.Ident]types.Object{}}
-	lenient := types.Config{Importer: none{}, Error: func(error) {}}
+	lenient := types.Config{Importer: few{}, Error: func(error) {}}
 	lenient.Check(name, set, files, info)
 	return info
 }

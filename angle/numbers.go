@@ -1,0 +1,20 @@
+package angle
+
+import (
+	"garboard/api"
+	"garboard/interval"
+	"garboard/rational"
+)
+
+// sure returns a result that comes without an error: that of valid numbers and intervals, and of a divisor other than 0.
+func sure[T any](result T, _ api.Errno) T { return result }
+
+func plus(x, y api.Rat) api.Rat  { return sure(rational.Add(x, y)) }
+func minus(x, y api.Rat) api.Rat { return sure(rational.Sub(x, y)) }
+func times(x, y api.Rat) api.Rat { return sure(rational.Mul(x, y)) }
+func over(x, y api.Rat) api.Rat  { return sure(rational.Div(x, y)) }
+func order(x, y api.Rat) int     { return sure(rational.Compare(x, y)) }
+
+func exactly(x api.Rat) api.Interval               { return sure(interval.Exact(x)) }
+func subtract(a, b api.Interval) api.Interval      { return sure(interval.Sub(a, b)) }
+func scale(x api.Rat, a api.Interval) api.Interval { return sure(interval.Mul(exactly(x), a)) }
