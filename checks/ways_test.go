@@ -21,6 +21,8 @@ rational map function-field
 interval array variadic
 root array defer
 angle range-function method-value
+matrix generic-function label
+polynomial range-function method-expression
 `
 
 // features finds uses of the features in a package whose types are known.
@@ -40,6 +42,14 @@ var features = map[string]func(ast.Node, *types.Info) bool{
 			}
 		}
 		return false
+	},
+	"method-expression": func(n ast.Node, info *types.Info) bool {
+		s, ok := n.(*ast.SelectorExpr)
+		return ok && info.Selections[s] != nil && info.Selections[s].Kind() == types.MethodExpr
+	},
+	"label": func(n ast.Node, _ *types.Info) bool {
+		branch, ok := n.(*ast.BranchStmt)
+		return ok && branch.Label != nil
 	},
 	"array": func(n ast.Node, info *types.Info) bool {
 		literal, ok := n.(*ast.CompositeLit)
