@@ -32,6 +32,9 @@ func take(f func(int) int) int { return f(0) }
 func set(p *int) int { *p = 1; return 0 }
 func fill(x []int) int { x[0] = 1; return 0 }
 func two(a, b int) int { return a }
+type items []int
+func (l items) first() int { return l[0] }
+func (l items) next() int { l[0]++; return l[0] }
 `
 	for statement, isOpen := range map[string]bool{
 		"var c counter; return append([]int{take(c.next)}, c.n)[0]":      true,
@@ -50,6 +53,10 @@ func two(a, b int) int { return a }
 		"n := 0; return take(func(int) int { n++; return n }) + n":       true,
 		"var c counter; sum := take(c.next); return sum + c.n":           false,
 		"var c counter; return c.next(0) + c.next(c.n)":                  true,
+		"l := items{0}; return l.next() + l[0]":                          true,
+		"l := items{0}; return two(l.next(), l[0]) + l.first()":          true,
+		"l := items{0}; return l.next() + l.first()":                     false,
+		"l := items{0}; return two(l.first(), l.next())":                 false,
 		"var c counter; return c.next(c.n)":                              false,
 		"var c counter; return two(c.value(), c.n) + c.value()":          false,
 		"var n int; return two(n, 0) + set(&n)":                          false,
@@ -229,7 +236,9 @@ func (u *unit) collect(e ast.Expr) {
 			if _, isName := n.X.(*ast.Ident); isName && u.isChanging(n) {
 				return false
 			}
-			u.reads = append(u.reads, n)
+			if !u.isOfReference(n) {
+				u.reads = append(u.reads, n)
+			}
 			u.collect(n.X)
 			return false
 		case *ast.Ident, *ast.IndexExpr, *ast.StarExpr:
@@ -253,6 +262,19 @@ func (u *unit) isChanging(method *ast.SelectorExpr) bool {
 	}
 	_, isPointer := selection.Obj().(*types.Func).Signature().Recv().Type().(*types.Pointer)
 	return isPointer
+}
+
+// isOfReference reports whether it is a method of a slice or a map, which takes this as it is and reads elements only when it runs.
+func (u *unit) isOfReference(method *ast.SelectorExpr) bool {
+	selection := u.info.Selections[method]
+	if selection == nil || selection.Kind() != types.MethodVal {
+		return false
+	}
+	switch selection.Recv().Underlying().(type) {
+	case *types.Slice, *types.Map:
+		return true
+	}
+	return false
 }
 
 // open returns the reads that a call of the unit may change, and that are neither among the operands of this call, nor in a call before it.

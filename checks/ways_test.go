@@ -23,6 +23,8 @@ root array defer
 angle range-function method-value
 matrix generic-function label
 polynomial range-function method-expression
+sturm range-function closure
+piecewise range-function map
 `
 
 // features finds uses of the features in a package whose types are known.
@@ -89,6 +91,10 @@ var features = map[string]func(ast.Node, *types.Info) bool{
 		_, ok := n.(*ast.DeferStmt)
 		return ok
 	},
+	"closure": func(n ast.Node, info *types.Info) bool {
+		literal, ok := n.(*ast.FuncLit)
+		return ok && !isRangedOver(literal, info) && usesOutside(literal, info)
+	},
 	"range-function": func(n ast.Node, info *types.Info) bool {
 		loop, ok := n.(*ast.RangeStmt)
 		if !ok {
@@ -97,6 +103,29 @@ var features = map[string]func(ast.Node, *types.Info) bool{
 		_, ok = underlying(info, loop.X).(*types.Signature)
 		return ok
 	},
+}
+
+// isRangedOver reports whether a function literal takes a function alone, as those do over which loops range.
+func isRangedOver(literal *ast.FuncLit, info *types.Info) bool {
+	parameters := literal.Type.Params.List
+	if len(parameters) != 1 {
+		return false
+	}
+	_, ok := underlying(info, parameters[0].Type).(*types.Signature)
+	return ok
+}
+
+// usesOutside reports whether a function literal uses a variable of the function around it.
+func usesOutside(literal *ast.FuncLit, info *types.Info) bool {
+	found := false
+	ast.Inspect(literal.Body, func(n ast.Node) bool {
+		if id, ok := n.(*ast.Ident); ok {
+			v, isVariable := info.Uses[id].(*types.Var)
+			found = found || isVariable && !v.IsField() && v.Parent() != v.Pkg().Scope() && !isWithin(v.Pos(), literal)
+		}
+		return !found
+	})
+	return found
 }
 
 // few imports the types of package api, and those of functions over which loops range: together with those of a package itself they are enough here.
