@@ -25,6 +25,8 @@ matrix generic-function label
 polynomial range-function method-expression
 sturm range-function closure
 piecewise range-function map
+vector array embedding
+mesh map struct-compared
 `
 
 // features finds uses of the features in a package whose types are known.
@@ -79,6 +81,10 @@ var features = map[string]func(ast.Node, *types.Info) bool{
 			_, isFunction := f.Type.(*ast.FuncType)
 			return isFunction
 		})
+	},
+	"embedding": func(n ast.Node, _ *types.Info) bool {
+		fields, ok := n.(*ast.StructType)
+		return ok && slices.ContainsFunc(fields.Fields.List, func(f *ast.Field) bool { return len(f.Names) == 0 })
 	},
 	"variadic": func(n ast.Node, _ *types.Info) bool {
 		f, ok := n.(*ast.FuncDecl)
