@@ -27,6 +27,8 @@ sturm range-function closure
 piecewise range-function map
 vector array embedding
 mesh map struct-compared
+clip range-function array
+mass variadic struct-compared
 `
 
 // features finds uses of the features in a package whose types are known.
