@@ -29,6 +29,8 @@ vector array embedding
 mesh map struct-compared
 clip range-function array
 mass variadic struct-compared
+shape range-function map function-field
+attitude array closure
 `
 
 // features finds uses of the features in a package whose types are known.
