@@ -31,6 +31,8 @@ clip range-function array
 mass variadic struct-compared
 shape range-function map function-field
 attitude array closure
+float array closure
+particulars variadic closure
 `
 
 // features finds uses of the features in a package whose types are known.
