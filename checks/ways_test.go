@@ -33,6 +33,8 @@ shape range-function map function-field
 attitude array closure
 float array closure
 particulars variadic closure
+bonjean map range-function
+draft closure array
 `
 
 // features finds uses of the features in a package whose types are known.
