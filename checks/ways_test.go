@@ -35,6 +35,8 @@ float array closure
 particulars variadic closure
 bonjean map range-function
 draft closure array
+trim struct-compared closure
+tank map closure
 `
 
 // features finds uses of the features in a package whose types are known.
