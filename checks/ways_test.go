@@ -37,6 +37,8 @@ bonjean map range-function
 draft closure array
 trim struct-compared closure
 tank map closure
+liquid array closure
+ledger map closure
 `
 
 // features finds uses of the features in a package whose types are known.
