@@ -39,6 +39,8 @@ trim struct-compared closure
 tank map closure
 liquid array closure
 ledger map closure
+condition map embedding
+lever method-value struct-compared
 `
 
 // features finds uses of the features in a package whose types are known.
